@@ -1,0 +1,1 @@
+"""Bentalike: scenes of the plane, alike by bending."""

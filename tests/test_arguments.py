@@ -1,0 +1,188 @@
+"""Which error each function raises for each of its arguments, in which order, and with what."""
+
+import inspect
+import unittest
+from itertools import combinations
+
+from bentalike import errors
+from bentalike.cuts import edges_of, turns_of, vertices_of, walk_area, walks_of
+from bentalike.points import common, in_turn, is_on, is_point, turn_of
+from helpers import SQUARE, at, failure, line
+
+GREAT = 10 ** 500
+POINT = at(1, 2)
+SEGMENT = line(0, 0, 1, 2)
+
+
+class Anything:
+    """A value of a kind that the package does not know."""
+
+
+OTHER_KINDS = (None, True, False, 0, 1, -1, GREAT, "", "A", b"", b"ab", [], {}, set(), {1}, Anything(), len, (),
+               (None,), (0, 1), ((),), ("spot",), ((0, 1), None), ([0, 1], [0, 1]), ((1, [2]), (3, {4: 5})))
+
+WRONG_POINTS = OTHER_KINDS + (
+    list(POINT), ([1, 1], (2, 1)), ((1, 1), [2, 1]), (1, 2), ((1, 1),), POINT + ((0, 1),),
+    ((True, 1), (2, 1)), ((1, True), (2, 1)), ((1, 1), (2, True)), ((1, 1), (False, 1)),
+    ((2, 2), (0, 1)), ((0, 1), (4, 6)), ((0, 2), (0, 1)), ((1, 0), (0, 1)), ((0, 1), (1, -1)), ((0, 1), (0, 0)),
+    (("1", 1), (2, 1)), ((1, 1), (2, None)), ((1, 1, 1), (2, 1)), ((1, 1), (2,)),
+)
+
+WRONG_SEGMENTS = OTHER_KINDS + (
+    list(SEGMENT), (POINT, POINT), (POINT,), (POINT, at(0, 0), at(1, 1)), POINT, (POINT, list(at(0, 0))),
+    (POINT, ((2, 2), (0, 1))), (((0, 1), (0, 2)), POINT), (POINT, ((True, 1), (0, 1))), (POINT, None),
+    (((GREAT, 1), (0, 1)), ((GREAT, 1), (0, 1))),
+)
+
+
+def given_rows(error, values):
+    """Of wrong values the triples (VALUE, ERROR, ATTRIBUTES), `given` being the whole value."""
+    return [(value, error, {"given": value}) for value in values]
+
+
+def wrong_rows(error, good, wrong):
+    """Wrong rows of up to 24 that are like good: what is no tuple, too many, wrong in some places."""
+    rows = [(value, error, {"index": None}) for value in OTHER_KINDS if not isinstance(value, tuple)]
+    rows += [([good], error, {"index": None}), ((good,) * 25, error, {"index": None}),
+             ((wrong[0],) * 25, error, {"index": None})]
+    for value in wrong:
+        rows += [((value,), error, {"index": 0}), ((good, value), error, {"index": 1}),
+                 ((value, good, value), error, {"index": 0})]
+    rows += [((good,) * 23 + (wrong[0],), error, {"index": 23}),
+             ((good,) * 7 + (wrong[0],) * 5, error, {"index": 7})]
+    return rows
+
+
+WRONG = {
+    "point": given_rows(errors.InvalidPoint, WRONG_POINTS),
+    "segment": given_rows(errors.InvalidSegment, WRONG_SEGMENTS),
+    "points": wrong_rows(errors.InvalidPoints, POINT, WRONG_POINTS),
+    "segments": wrong_rows(errors.InvalidSegments, SEGMENT, WRONG_SEGMENTS),
+    "walk": given_rows(errors.InvalidIndex, (-1, -2, 2, 3, GREAT, True, False, None, "0", b"", (0,), [0], Anything())),
+}
+LONE = (at(1, 1),)
+
+# For each function what may be passed, in the order of its signature: (parameter, kind, a value of it).
+CALLS = (
+    (turn_of, (("point", "point", at(0, 0)), ("other", "point", at(1, 0)), ("third", "point", at(1, 1)))),
+    (is_on, (("segment", "segment", SEGMENT), ("point", "point", POINT))),
+    (common, (("segment", "segment", SEGMENT), ("other_segment", "segment", line(0, 2, 1, 0)))),
+    (in_turn, (("point", "point", at(0, 0)), ("points", "points", (POINT, at(1, 0))))),
+    (vertices_of, (("segments", "segments", SQUARE), ("points", "points", LONE))),
+    (edges_of, (("segments", "segments", SQUARE), ("points", "points", LONE))),
+    (turns_of, (("segments", "segments", SQUARE), ("points", "points", LONE))),
+    (walks_of, (("segments", "segments", SQUARE), ("points", "points", LONE))),
+    (walk_area, (("segments", "segments", SQUARE), ("points", "points", LONE), ("index", "walk", 1))),
+)
+FOR_ANY_VALUE = (is_point,)
+
+
+class Arguments(unittest.TestCase):
+
+    def check_failure(self, error, kind, attributes):
+        self.assertIs(error.__class__, kind)
+        self.assertEqual(set(vars(error)), set(attributes))
+        for name, value in attributes.items():
+            told = getattr(error, name)
+            self.assertEqual(told.__class__, value.__class__)
+            self.assertTrue(told is value or (name != "given" and told == value), (told, value))
+
+    def test_parameters_are_named_as_the_document_names_them(self):
+        for function, arguments in CALLS:
+            self.assertEqual(list(inspect.signature(function).parameters), [name for name, _, _ in arguments])
+        for function in FOR_ANY_VALUE:
+            self.assertEqual(list(inspect.signature(function).parameters), ["value"])
+
+    def test_by_position_or_by_name_is_the_same(self):
+        for function, arguments in CALLS:
+            named = {name: value for name, _, value in arguments}
+            told = function(*named.values())
+            self.assertEqual(function(**named), told)
+            self.assertEqual(function(**dict(list(named.items())[::-1])), told)
+
+    def test_each_value_of_another_kind_is_refused(self):
+        for function, arguments in CALLS:
+            for name, kind, _ in arguments:
+                for wrong, error, attributes in WRONG[kind]:
+                    named = {other: value for other, _, value in arguments}
+                    named[name] = wrong
+                    with self.subTest(function=function.__name__, argument=name, wrong=wrong):
+                        self.check_failure(failure(function, **named), error, attributes)
+                        self.check_failure(failure(function, *named.values()), error, attributes)
+
+    def test_of_several_wrong_ones_the_first_of_the_signature_is_told(self):
+        for function, arguments in CALLS:
+            for many in range(2, len(arguments) + 1):
+                for names in combinations([name for name, _, _ in arguments], many):
+                    for at_wrong in (0, 3, -1):
+                        self.check_several(function, arguments, names, at_wrong)
+
+    def check_several(self, function, arguments, names, at_wrong):
+        named = {}
+        first = None
+        for name, kind, value in arguments:
+            wrong, error, attributes = WRONG[kind][at_wrong]
+            named[name] = wrong if name in names else value
+            if name in names and first is None:
+                first = error, attributes
+        with self.subTest(function=function.__name__, names=names):
+            self.check_failure(failure(function, **named), *first)
+
+    def test_equal_calls_return_equal_results(self):
+        for function, arguments in CALLS:
+            values = [value for _, _, value in arguments]
+            self.assertEqual(function(*values), function(*values))
+
+
+class Last(unittest.TestCase):
+
+    def test_the_point_itself_among_the_points(self):
+        here = at(3, 4)
+        for points, index in (((here,), 0), ((at(0, 0), here), 1), ((at(0, 0), here, here), 1),
+                              ((at(0, 0),) * 23 + (here,), 23)):
+            error = failure(in_turn, here, points)
+            self.assertIs(error.__class__, errors.InvalidPoints)
+            self.assertEqual(error.index, index)
+
+    def test_it_comes_behind_what_is_no_point(self):
+        here = at(3, 4)
+        error = failure(in_turn, here, (here, at(0, 0), None))
+        self.assertEqual((error.__class__, error.index), (errors.InvalidPoints, 2))
+
+
+class Bounds(unittest.TestCase):
+
+    def test_rows_of_24_are_taken(self):
+        segments = tuple(line(0, k, 1, k) for k in range(24))
+        points = tuple(at(2, k) for k in range(24))
+        self.assertEqual(len(vertices_of(segments, points)), 72)
+        self.assertEqual(len(in_turn(at(0, 0), points)), 24)
+
+    def test_rows_of_25_are_refused(self):
+        segments = tuple(line(0, k, 1, k) for k in range(25))
+        points = tuple(at(2, k) for k in range(25))
+        for function in (vertices_of, edges_of, turns_of, walks_of):
+            error = failure(function, segments, ())
+            self.assertEqual((error.__class__, error.index), (errors.InvalidSegments, None))
+            error = failure(function, (), points)
+            self.assertEqual((error.__class__, error.index), (errors.InvalidPoints, None))
+        error = failure(in_turn, at(0, 0), points)
+        self.assertEqual((error.__class__, error.index), (errors.InvalidPoints, None))
+
+    def test_an_index_into_no_walks(self):
+        for index in (0, -1, None):
+            error = failure(walk_area, (), (at(0, 0),), index)
+            self.assertEqual((error.__class__, error.given), (errors.InvalidIndex, index))
+
+
+class AnyValue(unittest.TestCase):
+
+    def test_whatever_it_is_is_told_by_true_or_false(self):
+        for function in FOR_ANY_VALUE:
+            for value in OTHER_KINDS + WRONG_POINTS + WRONG_SEGMENTS + (POINT, SEGMENT):
+                self.assertIn(function(value), (True, False))
+                self.assertIsInstance(function(value), bool)
+
+
+if __name__ == "__main__":
+    unittest.main()
