@@ -1,7 +1,12 @@
 """Checks of arguments: each function raises the error told for its argument, or does nothing."""
 
-from bentalike.errors import InvalidIndex, InvalidPoint, InvalidPoints, InvalidSegment, InvalidSegments
+from bentalike.errors import (
+    InvalidFigure, InvalidIndex, InvalidMap, InvalidPoint, InvalidPoints, InvalidScene, InvalidSegment,
+    InvalidSegments, TooMany
+)
+from bentalike.forms import MOST_SEGMENTS, is_figure_form, is_scene_form, lines_in, lines_in_scene
 from bentalike.kinds import is_index, is_place, is_row, is_stretch
+from bentalike.soundness import is_sound_map
 
 MOST_IN_ROW = 24
 
@@ -36,3 +41,26 @@ def check_index(value, many):
     """Refuse what is no index into something of which there are so many."""
     if not is_index(value, many):
         raise InvalidIndex(value)
+
+
+def check_figure(value):
+    if not is_figure_form(value):
+        raise InvalidFigure(value)
+    check_bound(len(lines_in(value)), MOST_SEGMENTS)
+
+
+def check_scene(value):
+    if not is_scene_form(value):
+        raise InvalidScene(value)
+    check_bound(len(lines_in_scene(value)), MOST_SEGMENTS)
+
+
+def check_bound(many, most):
+    """Refuse so many of something of which there are at most so many."""
+    if many > most:
+        raise TooMany(many)
+
+
+def check_map(value):
+    if not is_sound_map(value):
+        raise InvalidMap(value)

@@ -6,7 +6,12 @@ from itertools import combinations
 
 from bentalike import errors
 from bentalike.cuts import edges_of, turns_of, vertices_of, walk_area, walks_of
+from bentalike.drawings import cell_at, does_lie_at, drawing_of, how_many, point_in
+from bentalike.figures import cells_of, is_figure, is_in, segments_of, spots_of
+from bentalike.maps import dart_behind, face_around, is_map, left_of, parts_in, turned
 from bentalike.points import common, in_turn, is_on, is_point, turn_of
+from bentalike.scenes import drawing_in, is_scene, label_at, labels_in
+from charts import CUT, EYE
 from helpers import SQUARE, at, failure, line
 
 GREAT = 10 ** 500
@@ -53,7 +58,50 @@ def wrong_rows(error, good, wrong):
     return rows
 
 
+FIGURE = ("less", ("area", (at(0, 0), at(2, 0), at(2, 2))), ("spot", at(1, 1)))
+LONG = "path", tuple(at(k, k * k) for k in range(12))
+WIDE = ("either", LONG, ("either", LONG, ("path", (at(0, 0), at(1, 0), at(0, 1), at(0, 0)))))
+DEEP = ("rim", ("rim", ("rim", ("rim", ("rim", FIGURE)))))
+SCENE = (("A", FIGURE), ("C", ("spot", at(1, 1))))
+
+WRONG_FIGURES = OTHER_KINDS + (
+    list(FIGURE), ("spot", (1, 1)), ("spot", list(POINT)), ("path", (POINT,)), ("path", (POINT, POINT)),
+    ("area", (POINT, at(0, 0))), ("area", (POINT, at(0, 0), POINT)), ("path", [POINT, at(0, 0)]), ("line", POINT),
+    ("both", FIGURE), ("rim", FIGURE, FIGURE), ("rim", list(FIGURE)), DEEP, ("both", DEEP, FIGURE), SCENE,
+    ("spot", ((True, 1), (0, 1))), ("both", WIDE, ("spot", None)), ("rim", ("rim", ("rim", WIDE))) + ((),),
+)
+
+WRONG_SCENES = tuple(value for value in OTHER_KINDS if value != ()) + (
+    list(SCENE), SCENE[::-1], SCENE + SCENE[1:], (("A", FIGURE), ("A", FIGURE)), (("E", FIGURE),), (["A", FIGURE],),
+    (("A", None),), (("A", FIGURE, FIGURE),), (("A", DEEP),), FIGURE, ("A", FIGURE), (("B", WIDE), ("A", WIDE)),
+    (("A", WIDE), None), ((True, FIGURE),),
+)
+
+WRONG_CELLS = OTHER_KINDS + (
+    ("vertex", -1), ("vertex", 5), ("edge", 4), ("edge", -1), ("face", 2), ("face", -1), ("face", True),
+    ("face", False), ("vertex", GREAT), ["face", 0], ("face", 0, 0), ("face",), ("face", "0"), ("face", None),
+    ("special", 0), (0, "face"), ("Face", 0), (b"face", 0), (["face"], 0), ("face", (0,)),
+)
+
+WRONG_MAPS = OTHER_KINDS + (
+    list(CUT), CUT[:4], CUT + ((),), CUT[:2] + (((0, 2, 4), (1, 3, 5)),) + CUT[3:], CUT[:4] + (CUT[4][:2],),
+    CUT[:4] + (list(CUT[4]),), (("A", "B"),) + CUT[1:], CUT[:3] + ((("A",), 1, 1),) + CUT[4:],
+    CUT[:2] + (((False, 4, 2), (True, 3, 5)),) + CUT[3:], FIGURE, SCENE,
+)
+NO_INDEXES = (-1, -2, GREAT, True, False, None, "0", b"", (0,), [0], {}, Anything())
+
 WRONG = {
+    "figure": given_rows(errors.InvalidFigure, WRONG_FIGURES) + [
+        (WIDE, errors.TooMany, {"given": 25}), (("both", WIDE, WIDE), errors.TooMany, {"given": 50})],
+    "scene": given_rows(errors.InvalidScene, WRONG_SCENES) + [
+        ((("B", WIDE),), errors.TooMany, {"given": 25}),
+        ((("A", LONG), ("B", LONG), ("D", FIGURE)), errors.TooMany, {"given": 25})],
+    "cell": given_rows(errors.InvalidCell, WRONG_CELLS),
+    "map": given_rows(errors.InvalidMap, WRONG_MAPS),
+    "dart": given_rows(errors.InvalidDart, NO_INDEXES + (6, 7)),
+    "face": given_rows(errors.InvalidFace, NO_INDEXES + (3, 4)),
+    "part": given_rows(errors.InvalidPart, tuple(value for value in WRONG_CELLS if value != ("special", 0)) + (
+        ("special", 2), ("special", -1), ("special", False), ("ring", 1), ("ring", False), ("ring", -1), ("Ring", 0))),
     "point": given_rows(errors.InvalidPoint, WRONG_POINTS),
     "segment": given_rows(errors.InvalidSegment, WRONG_SEGMENTS),
     "points": wrong_rows(errors.InvalidPoints, POINT, WRONG_POINTS),
@@ -73,8 +121,26 @@ CALLS = (
     (turns_of, (("segments", "segments", SQUARE), ("points", "points", LONE))),
     (walks_of, (("segments", "segments", SQUARE), ("points", "points", LONE))),
     (walk_area, (("segments", "segments", SQUARE), ("points", "points", LONE), ("index", "walk", 1))),
+    (drawing_of, (("segments", "segments", SQUARE), ("points", "points", LONE))),
+    (how_many, (("segments", "segments", SQUARE), ("points", "points", LONE))),
+    (cell_at, (("segments", "segments", SQUARE), ("points", "points", LONE), ("point", "point", POINT))),
+    (does_lie_at, (("segments", "segments", SQUARE), ("points", "points", LONE), ("cell", "cell", ("edge", 3)),
+                   ("other", "cell", ("face", 1)))),
+    (point_in, (("segments", "segments", SQUARE), ("points", "points", LONE), ("cell", "cell", ("vertex", 4)))),
+    (segments_of, (("figure", "figure", FIGURE),)),
+    (spots_of, (("figure", "figure", FIGURE),)),
+    (is_in, (("figure", "figure", FIGURE), ("point", "point", POINT))),
+    (cells_of, (("figure", "figure", FIGURE), ("segments", "segments", SQUARE), ("points", "points", LONE))),
+    (label_at, (("scene", "scene", SCENE), ("point", "point", POINT))),
+    (drawing_in, (("scene", "scene", SCENE),)),
+    (labels_in, (("scene", "scene", SCENE),)),
+    (dart_behind, (("chart", "map", CUT), ("dart", "dart", 5))),
+    (left_of, (("chart", "map", CUT), ("dart", "dart", 0))),
+    (turned, (("chart", "map", CUT),)),
+    (parts_in, (("chart", "map", CUT), ("face", "face", 2))),
+    (face_around, (("chart", "map", EYE), ("part", "part", ("ring", 0)))),
 )
-FOR_ANY_VALUE = (is_point,)
+FOR_ANY_VALUE = (is_point, is_figure, is_scene, is_map)
 
 
 class Arguments(unittest.TestCase):
@@ -179,7 +245,8 @@ class AnyValue(unittest.TestCase):
 
     def test_whatever_it_is_is_told_by_true_or_false(self):
         for function in FOR_ANY_VALUE:
-            for value in OTHER_KINDS + WRONG_POINTS + WRONG_SEGMENTS + (POINT, SEGMENT):
+            for value in (WRONG_POINTS + WRONG_SEGMENTS + WRONG_FIGURES + WRONG_SCENES + WRONG_CELLS + WRONG_MAPS
+                          + NO_INDEXES + (POINT, SEGMENT, FIGURE, SCENE, CUT, WIDE)):
                 self.assertIn(function(value), (True, False))
                 self.assertIsInstance(function(value), bool)
 
