@@ -11,7 +11,8 @@ class Board:
         vertices, rows = cut(segments, points)
         self.vertices = vertices
         self.edges = edges_along(rows)
-        self.faces = faces_of(vertices, self.edges, turns_at(vertices, self.edges))
+        self.turns = turns_at(vertices, self.edges)
+        self.faces = faces_of(vertices, self.edges, self.turns)
         # By a segment, the vertices along it.
         self.rows = dict(zip(segments, rows))
         self.sides = sides_of_edges(self.edges, self.faces)

@@ -1,14 +1,17 @@
 """Checks of arguments: each function raises the error told for its argument, or does nothing."""
 
 from bentalike.errors import (
-    InvalidFigure, InvalidIndex, InvalidMap, InvalidPoint, InvalidPoints, InvalidScene, InvalidSegment,
-    InvalidSegments, TooMany
+    InvalidDart, InvalidFigure, InvalidIndex, InvalidMap, InvalidName, InvalidPick, InvalidPoint, InvalidPoints,
+    InvalidScene, InvalidSegment, InvalidSegments, InvalidSide, InvalidSpecial, TooMany
 )
-from bentalike.forms import MOST_SEGMENTS, is_figure_form, is_scene_form, lines_in, lines_in_scene
+from bentalike.forms import (
+    MOST_SEGMENTS, is_figure_form, is_name, is_pick_form, is_scene_form, lines_in, lines_in_scene
+)
 from bentalike.kinds import is_index, is_place, is_row, is_stretch
 from bentalike.soundness import is_sound_map
 
 MOST_IN_ROW = 24
+SIDES = ("keeps", "turns")
 
 
 def check_point(value):
@@ -64,3 +67,29 @@ def check_bound(many, most):
 def check_map(value):
     if not is_sound_map(value):
         raise InvalidMap(value)
+
+
+def check_dart(value, many):
+    """Refuse what is no index of a dart, or of an arc, of which there are so many."""
+    if not is_index(value, many):
+        raise InvalidDart(value)
+
+
+def check_special(value, chart):
+    if not is_index(value, len(chart[0])):
+        raise InvalidSpecial(value)
+
+
+def check_side(value):
+    if not isinstance(value, str) or value not in SIDES:
+        raise InvalidSide(value)
+
+
+def check_name(value):
+    if not is_name(value):
+        raise InvalidName(value)
+
+
+def check_pick(value):
+    if not is_pick_form(value):
+        raise InvalidPick(value)

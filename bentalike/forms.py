@@ -1,4 +1,4 @@
-"""Figures and scenes: which values are such but for how many segments they have, and what is in them."""
+"""Figures, scenes, picks: which values are such but for how many segments they have, and what is in them."""
 
 from bentalike.kinds import is_ascending, is_place, is_row
 
@@ -96,3 +96,18 @@ def lines_in_scene(scene):
 def dots_in_scene(scene):
     """The lone points of all figures."""
     return tuple([dot for _, figure in scene for dot in dots_in(figure)])
+
+
+def is_pick_form(value, deep=MOST_DEEP):
+    """Whether value is a pick, up to so deep."""
+    if deep == 0 or not is_row(value, 1, 3) or not isinstance(value[0], str):
+        return False
+    if value[0] == "all":
+        return len(value) == 1
+    if value[0] == "name":
+        return len(value) == 2 and is_name(value[1])
+    if value[0] in NEARBY or value[0] == "not":
+        return len(value) == 2 and is_pick_form(value[1], deep - 1)
+    if value[0] not in PAIRED or len(value) != 3:
+        return False
+    return is_pick_form(value[1], deep - 1) and is_pick_form(value[2], deep - 1)

@@ -1,9 +1,10 @@
 """Maps: which are sound, their darts, what lies in which face, and the map turned."""
 
-from bentalike.checks import check_map
-from bentalike.errors import InvalidDart, InvalidFace, InvalidPart
+from bentalike.checks import check_dart, check_map
+from bentalike.errors import InvalidFace, InvalidPart
+from bentalike.flipping import turned_over
 from bentalike.kinds import is_index, is_row, is_whole
-from bentalike.links import darts_ahead, from_least, opposite
+from bentalike.links import darts_ahead, opposite
 from bentalike.nesting import homes_in, left_faces
 from bentalike.soundness import is_sound_map
 
@@ -13,37 +14,24 @@ def is_map(value):
     return is_sound_map(value)
 
 
-def check_dart(value, chart):
-    if not is_index(value, 2 * len(chart[1])):
-        raise InvalidDart(value)
-
-
 def dart_behind(chart, dart):
     """The dart behind a dart on its walk."""
     check_map(chart)
-    check_dart(dart, chart)
+    check_dart(dart, 2 * len(chart[1]))
     return darts_ahead(chart[2])[opposite(dart)]
 
 
 def left_of(chart, dart):
     """The index of the face on the left of a dart."""
     check_map(chart)
-    check_dart(dart, chart)
+    check_dart(dart, 2 * len(chart[1]))
     return left_faces(chart)[dart]
 
 
 def turned(chart):
     """The map as it is seen from behind."""
     check_map(chart)
-    specials, arcs, turns, rings, faces = chart
-    other_turns = tuple([from_least(list(turn[::-1])) if turn else () for turn in turns])
-    other_faces = tuple([(label, turned_walks(walks), spots) for label, walks, spots in faces])
-    return specials, arcs, other_turns, rings, other_faces
-
-
-def turned_walks(walks):
-    """The walks of a face when seen from behind: those of the opposites, the other way round."""
-    return tuple(sorted([from_least([opposite(dart) for dart in walk[::-1]]) for walk in walks]))
+    return turned_over(chart)
 
 
 def parts_in(chart, face):

@@ -68,3 +68,27 @@ def homes_in(chart):
     """For each part the face in which it lies."""
     homes, _ = reached_from(links_of(chart))
     return homes
+
+
+class Nest:
+    """What lies in which face of a map, from face 0 on."""
+
+    def __init__(self, chart):
+        homes, reached = reached_from(links_of(chart))
+        # Each face stands behind the one in which the part that goes round it lies.
+        self.faces = list(reached)
+        self.homes = homes
+        self.lying = {face: [] for face in reached}
+        for part in homes:
+            self.lying[homes[part]].append(part)
+        # For each net its outer walk, and the pairs of a face and a walk for the other ones.
+        self.outer = {}
+        self.inner = {part: [] for part in homes}
+        nets = nets_of(chart)
+        for face, (_, walks, _) in enumerate(chart[4]):
+            for walk in walks:
+                part = "special", nets[tail_of(chart[1], walk[0])]
+                if homes[part] == face:
+                    self.outer[part] = walk
+                else:
+                    self.inner[part].append((face, walk))

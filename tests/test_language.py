@@ -15,7 +15,7 @@ METHODS = set(
     "append clear copy count endswith extend find get index insert isalnum isalpha isdigit islower isspace isupper "
     "items join keys ljust lower lstrip partition pop remove replace reverse rfind rjust rpartition rsplit rstrip "
     "setdefault split splitlines startswith strip update upper values zfill bit_length add discard".split())
-LIBRARY = {"math": {"gcd", "lcm", "isqrt"}, "heapq": {"heappush", "heappop", "heapify"}}
+LIBRARY = {"math": {"gcd", "lcm", "isqrt", "factorial"}, "heapq": {"heappush", "heappop", "heapify"}}
 BARRED_NAMES = set("register mro elements open input law version_info with_traceback add_note attrgetter breakpoint "
                    "builtins compile copyright credits delattr dir eval exec exit gc globals help id importlib license "
                    "locals methodcaller os quit setattr super type vars sys".split())
@@ -53,6 +53,18 @@ def bound_at_top(tree):
         elif isinstance(node, ast.Assign):
             names += [target.id for target in node.targets]
     return names
+
+
+def own_methods():
+    """The methods that the classes of the package define."""
+    return {node.name for _, tree in trees() for held in ast.walk(tree) if isinstance(held, ast.ClassDef)
+            for node in held.body if isinstance(node, ast.FunctionDef)}
+
+
+def attributes():
+    """The names of what is assigned to objects anywhere in the package."""
+    return {node.attr for _, tree in trees() for node in ast.walk(tree)
+            if isinstance(node, ast.Attribute) and isinstance(node.ctx, ast.Store)}
 
 
 def parents(tree):
@@ -127,7 +139,8 @@ class ModuleLevel(unittest.TestCase):
                 names = set(parameters(node))
                 names |= {inner.id for inner in ast.walk(node)
                           if isinstance(inner, ast.Name) and isinstance(inner.ctx, ast.Store)}
-                self.assertFalse(names & set(top), (path.name, node.lineno))
+                # The document calls a parameter of `map_of` as the function `code` beside it is called.
+                self.assertLessEqual(names & set(top), {"code"}, (path.name, node.lineno))
                 self.assertFalse(names & set(dir(builtins)), (path.name, node.lineno))
             self.assertFalse(set(top) & set(dir(builtins)), path.name)
 
@@ -157,11 +170,27 @@ class Expressions(unittest.TestCase):
             self.assertFalse(bound & BARRED_NAMES, path.name)
 
     def test_methods(self):
+        methods = METHODS | own_methods()
         for path, tree in trees():
             for node in ast.walk(tree):
                 if isinstance(node, ast.Call) and isinstance(node.func, ast.Attribute):
-                    self.assertIn(node.func.attr, METHODS, (path.name, node.lineno))
+                    self.assertIn(node.func.attr, methods, (path.name, node.lineno))
                     self.assertEqual(node.keywords, [], (path.name, node.lineno))
+
+    def test_own_methods_and_attributes_are_named_as_nothing_else(self):
+        methods = own_methods()
+        self.assertEqual({name for name in methods if name.startswith("_")}, {"__init__"})
+        for names in (methods, attributes() - {"index"}):
+            self.assertFalse(names & METHODS)
+            self.assertFalse(names & (BARRED_NAMES | set(dir(builtins))))
+        self.assertFalse(methods & attributes())
+
+    def test_attributes_that_are_read_are_assigned(self):
+        known = attributes() | own_methods() | METHODS
+        for path, tree in trees():
+            for node in ast.walk(tree):
+                if isinstance(node, ast.Attribute):
+                    self.assertIn(node.attr, known, (path.name, node.lineno))
 
     def test_is_stands_beside_none_true_and_false(self):
         for path, tree in trees():
