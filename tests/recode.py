@@ -1,10 +1,21 @@
 """The document's words on codes and renamings done again, slowly and by another way, to compare with."""
 
+from functools import lru_cache
 from itertools import permutations, product
 from math import factorial
 
 import charts
-from bentalike.maps import left_of, parts_in
+from bentalike.maps import parts_in
+
+
+@lru_cache(maxsize=100)
+def lefts(chart):
+    """For each dart the face that has it in one of its walks."""
+    return {dart: face for face, (_, walks, _) in enumerate(chart[4]) for walk in walks for dart in walk}
+
+
+def left_of(chart, dart):
+    return lefts(chart)[dart]
 
 
 def word(label):

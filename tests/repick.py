@@ -1,6 +1,6 @@
 """The document's words on cells, picks and pieces done again, with sets of cells, to compare with."""
 
-from bentalike.maps import left_of
+from recode import left_of
 
 KINDS = (("arc", 1), ("face", 4), ("ring", 3), ("special", 0))
 

@@ -5,13 +5,22 @@ import unittest
 from itertools import combinations
 
 from bentalike import errors
+from bentalike.asked import are_joined, euler, holes, meetings, pieces, word_of
+from bentalike.codes import code, is_code, map_of, turned_code
 from bentalike.cuts import edges_of, turns_of, vertices_of, walk_area, walks_of
 from bentalike.drawings import cell_at, does_lie_at, drawing_of, how_many, point_in
 from bentalike.figures import cells_of, is_figure, is_in, segments_of, spots_of
 from bentalike.maps import dart_behind, face_around, is_map, left_of, parts_in, turned
+from bentalike.needless import is_least, is_needless_arc, kind_of, least, least_map, steps, taken
+from bentalike.picks import cells_in, does_rim, is_pick, map_cells
+from bentalike.plans import drawn, is_plan, plan_of
 from bentalike.points import common, in_turn, is_on, is_point, turn_of
+from bentalike.questions import (
+    euler_in, holes_in, is_bounded_in, is_closed_in, is_open_in, meetings_in, nesting_in, pieces_in, surrounds, word_in
+)
+from bentalike.renamings import alike, is_renaming, many_renamings, renaming
 from bentalike.scenes import drawing_in, is_scene, label_at, labels_in
-from charts import CUT, EYE
+from charts import A, CUT, EYE, RINGS, STICK
 from helpers import SQUARE, at, failure, line
 
 GREAT = 10 ** 500
@@ -88,6 +97,19 @@ WRONG_MAPS = OTHER_KINDS + (
     CUT[:4] + (list(CUT[4]),), (("A", "B"),) + CUT[1:], CUT[:3] + ((("A",), 1, 1),) + CUT[4:],
     CUT[:2] + (((False, 4, 2), (True, 3, 5)),) + CUT[3:], FIGURE, SCENE,
 )
+WRONG_PICKS = OTHER_KINDS + (
+    ["all"], ("all", "A"), ("name", "E"), ("name",), ("name", ["A"]), ("name", True), ("name", ("A",)), "all", "name A",
+    ("not",), ("not", "A"), ("rim", ["all"]), ("both", ("all",)), ("both", ("all",), ("all",), ("all",)),
+    ("rim", ("rim", ("rim", ("rim", ("rim", ("rim", ("all",))))))), ("either", ("all",), ["all"]), (True,),
+    ("less", ("all",), None), FIGURE, ("rim", FIGURE),
+)
+WRONG_CODES = OTHER_KINDS[:6] + (b"[-]", ["[-]"], ("[-]",), {}, Anything(), "[-", "[A]", "[-.B.A]", "[-oA]", "[-]]",
+                                 "code", CUT)
+WRONG_STEPS = OTHER_KINDS + (
+    ("arc", 0), ("arc", 2), ("arc", -2), ("arc", True), ["arc", 1], ("arc", 1, 1), ("arc",), ("arc", "1"), ("pass", 0),
+    ("spot", 0), ("ring", 0), ("Arc", 1), (b"arc", 1), (("arc", 1),), ("arc", GREAT), ("arc", [1]), "arc",
+)
+SEAM = ((A, A), ((0, 1, A), (0, 1, A), (0, 1, A)), CUT[2], (), CUT[4])
 NO_INDEXES = (-1, -2, GREAT, True, False, None, "0", b"", (0,), [0], {}, Anything())
 
 WRONG = {
@@ -106,9 +128,21 @@ WRONG = {
     "segment": given_rows(errors.InvalidSegment, WRONG_SEGMENTS),
     "points": wrong_rows(errors.InvalidPoints, POINT, WRONG_POINTS),
     "segments": wrong_rows(errors.InvalidSegments, SEGMENT, WRONG_SEGMENTS),
+    "special": given_rows(errors.InvalidSpecial, NO_INDEXES + (2, 3)),
+    "arc": given_rows(errors.InvalidDart, NO_INDEXES + (3, 5)),
+    "step": given_rows(errors.InvalidStep, WRONG_STEPS),
+    "side": given_rows(errors.InvalidSide, WRONG_PICKS + ("keep", "Turns", b"keeps", ["turns"])),
+    "code": given_rows(errors.InvalidCode, WRONG_CODES),
+    "pick": given_rows(errors.InvalidPick, WRONG_PICKS),
+    "name": given_rows(errors.InvalidName, tuple(value for value in OTHER_KINDS if value != "A") + (
+        "E", "a", "AB", ("A",), ["A"], b"A", ("name", "A"))),
+    "map cell": given_rows(errors.InvalidCell, tuple(value for value in WRONG_CELLS if value != ("special", 0)) + (
+        ("special", True), ("special", 2), ("arc", 1), ("ring", 0), ("face", 1), ("arc", -1), ["arc", 0])),
+    "piece": given_rows(errors.InvalidIndex, NO_INDEXES + (2, 3)),
     "walk": given_rows(errors.InvalidIndex, (-1, -2, 2, 3, GREAT, True, False, None, "0", b"", (0,), [0], Anything())),
 }
 LONE = (at(1, 1),)
+PICK = ("less", ("closure", ("name", "A")), ("name", "B"))
 
 # For each function what may be passed, in the order of its signature: (parameter, kind, a value of it).
 CALLS = (
@@ -139,8 +173,44 @@ CALLS = (
     (turned, (("chart", "map", CUT),)),
     (parts_in, (("chart", "map", CUT), ("face", "face", 2))),
     (face_around, (("chart", "map", EYE), ("part", "part", ("ring", 0)))),
+    (kind_of, (("chart", "map", CUT), ("special", "special", 1))),
+    (is_needless_arc, (("chart", "map", CUT), ("arc", "arc", 2))),
+    (steps, (("chart", "map", SEAM),)),
+    (taken, (("chart", "map", SEAM), ("step", "step", ("arc", 1)))),
+    (is_least, (("chart", "map", SEAM),)),
+    (least, (("chart", "map", SEAM),)),
+    (least_map, (("scene", "scene", SCENE),)),
+    (code, (("chart", "map", CUT),)),
+    (turned_code, (("chart", "map", CUT),)),
+    (map_of, (("code", "code", "[-.AoA[-.B]]"),)),
+    (renaming, (("chart", "map", CUT), ("other", "map", SEAM), ("side", "side", "keeps"))),
+    (many_renamings, (("chart", "map", CUT), ("other", "map", CUT), ("side", "side", "turns"))),
+    (alike, (("scene", "scene", SCENE), ("other", "scene", ()))),
+    (plan_of, (("scene", "scene", SCENE),)),
+    (drawn, (("chart", "map", CUT),)),
+    (map_cells, (("chart", "map", CUT),)),
+    (does_rim, (("chart", "map", STICK), ("cell", "map cell", ("special", 1)), ("other", "map cell", ("face", 0)))),
+    (cells_in, (("chart", "map", CUT), ("pick", "pick", PICK))),
+    (meetings_in, (("chart", "map", CUT), ("name", "name", "A"), ("other", "name", "D"))),
+    (word_in, (("chart", "map", CUT), ("name", "name", "B"), ("other", "name", "B"))),
+    (pieces_in, (("chart", "map", CUT), ("pick", "pick", PICK))),
+    (holes_in, (("chart", "map", CUT), ("pick", "pick", PICK))),
+    (surrounds, (("chart", "map", RINGS), ("pick", "pick", ("name", "A")), ("index", "piece", 0),
+                 ("other", "piece", 1))),
+    (nesting_in, (("chart", "map", RINGS), ("pick", "pick", PICK))),
+    (euler_in, (("chart", "map", RINGS), ("pick", "pick", PICK))),
+    (is_open_in, (("chart", "map", CUT), ("pick", "pick", PICK))),
+    (is_closed_in, (("chart", "map", CUT), ("pick", "pick", PICK))),
+    (is_bounded_in, (("chart", "map", CUT), ("pick", "pick", PICK))),
+    (meetings, (("scene", "scene", SCENE), ("name", "name", "A"), ("other", "name", "C"))),
+    (word_of, (("scene", "scene", SCENE), ("name", "name", "D"), ("other", "name", "C"))),
+    (pieces, (("scene", "scene", SCENE), ("pick", "pick", PICK))),
+    (holes, (("scene", "scene", SCENE), ("pick", "pick", PICK))),
+    (euler, (("scene", "scene", SCENE), ("pick", "pick", PICK))),
+    (are_joined, (("scene", "scene", SCENE), ("pick", "pick", ("all",)), ("point", "point", POINT),
+                  ("other", "point", at(5, 5)))),
 )
-FOR_ANY_VALUE = (is_point, is_figure, is_scene, is_map)
+FOR_ANY_VALUE = (is_point, is_figure, is_scene, is_map, is_code, is_plan, is_pick)
 
 
 class Arguments(unittest.TestCase):
@@ -194,6 +264,17 @@ class Arguments(unittest.TestCase):
         with self.subTest(function=function.__name__, names=names):
             self.check_failure(failure(function, **named), *first)
 
+    def test_whatever_stands_behind_them_of_is_renaming(self):
+        self.assertEqual(list(inspect.signature(is_renaming).parameters), ["chart", "other", "side", "value"])
+        for value in OTHER_KINDS + (CUT, ((1, 0), (1, 0), (), (0,))):
+            named = {"chart": CUT, "other": CUT, "side": "keeps", "value": value}
+            self.assertIs(is_renaming(**named), False)
+            for many, (name, kind) in enumerate((("chart", "map"), ("other", "map"), ("side", "side"))):
+                for wrong, error, attributes in WRONG[kind][::5]:
+                    self.check_failure(failure(is_renaming, **{**named, name: wrong}), error, attributes)
+                    behind = {later: None for later in ("other", "side", "value")[many:]}
+                    self.check_failure(failure(is_renaming, **{**named, **behind, name: wrong}), error, attributes)
+
     def test_equal_calls_return_equal_results(self):
         for function, arguments in CALLS:
             values = [value for _, _, value in arguments]
@@ -246,7 +327,8 @@ class AnyValue(unittest.TestCase):
     def test_whatever_it_is_is_told_by_true_or_false(self):
         for function in FOR_ANY_VALUE:
             for value in (WRONG_POINTS + WRONG_SEGMENTS + WRONG_FIGURES + WRONG_SCENES + WRONG_CELLS + WRONG_MAPS
-                          + NO_INDEXES + (POINT, SEGMENT, FIGURE, SCENE, CUT, WIDE)):
+                          + NO_INDEXES + WRONG_PICKS + WRONG_CODES + WRONG_STEPS
+                          + (PICK, "[-.A]", ("all",), POINT, SEGMENT, FIGURE, SCENE, CUT, WIDE)):
                 self.assertIn(function(value), (True, False))
                 self.assertIsInstance(function(value), bool)
 
