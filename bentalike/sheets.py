@@ -63,7 +63,6 @@ class Sheet:
 
     def drop_spot(self, special):
         self.specials.pop(special)
-        self.turns.pop(special)
         self.homes.pop(special)
 
     def is_needless_arc(self, arc):
@@ -102,9 +101,9 @@ class Sheet:
 
     def told(self):
         """The map that is left: what stays is numbered in the order of its numbers."""
-        specials = sorted(self.specials)
+        specials = list(self.specials)
         numbers = {special: number for number, special in enumerate(specials)}
-        firsts = [dart for dart in sorted(self.opposites) if dart < self.opposites[dart]]
+        firsts = [dart for dart in self.opposites if dart < self.opposites[dart]]
         darts = {}
         for number, first in enumerate(firsts):
             darts[first] = 2 * number
@@ -169,10 +168,10 @@ def least_of(chart):
     for word, index in sheet.steps():
         if word in ("arc", "ring"):
             sheet.take((word, index))
-    for special in sorted(sheet.specials):
+    for special in list(sheet.specials):
         if sheet.is_needless_spot(special):
             sheet.drop_spot(special)
-    for special in sorted(sheet.specials):
+    for special in list(sheet.specials):
         if sheet.is_pass(special):
             sheet.drop_pass(special)
     return sheet.told()

@@ -69,14 +69,15 @@ def block_of_part(chart, nest, blocks, part):
     if part[0] == "special" and not chart[2][part[1]]:
         return 0, 0, {part: (0, 0)}
     outer, inner = rounds_of(chart, nest, part)
-    triangles, centres = filled([outer] + [row for _, row in inner])
+    rounds = [outer] + [row for _, row in inner]
+    triangles, centres = filled(rounds)
     # Of the outer face the triangle is seen from its other side: the first corner lies to the right.
     right, left, top = centres[0]
     grid = placed_on_grid(triangles, left, right, top)
     full = [(blocks[face], centre) for (face, _), centre in zip(inner, centres[1:]) if blocks[face][2]]
-    scale = max([width + height + 3 for (width, height, _), _ in full], default=1)
+    scale = max([width + height for (width, height, _), _ in full], default=1)
     places = {}
-    for row in [outer] + [row for _, row in inner]:
+    for row in rounds:
         for place in row:
             x, y = grid[place]
             places[place] = scale * x, scale * y
@@ -86,13 +87,15 @@ def block_of_part(chart, nest, blocks, part):
 
 
 def put_in_triangle(places, block, scale, corners):
-    """Put the points of a block, made small, in a triangle that is given before it is scaled."""
+    """Put the points of a block, made small, in a triangle that is given before it is scaled.
+
+    On the rim of the triangle, too, nothing else is drawn: it lies within a face.
+    """
     (x, y), (next_x, next_y), (last_x, last_y) = corners
     _, _, points = block
     for place in points:
+        # Both steps from the first corner are from 0 up and together up to the scale.
         along, across = points[place]
-        # Both steps from the first corner are above 0 and together less than the scale.
-        along, across = along + 1, across + 1
         places[place] = (
             scale * x + along * (next_x - x) + across * (last_x - x),
             scale * y + along * (next_y - y) + across * (last_y - y),
@@ -118,7 +121,7 @@ def side_by_side(blocks):
             points[place] = start + x, y
         start += width + 1
         height = max(height, own_height)
-    return max(start - 1, 0), height, points
+    return start, height, points
 
 
 def points_for(chart):

@@ -28,6 +28,25 @@ POINT = at(1, 2)
 SEGMENT = line(0, 0, 1, 2)
 
 
+# Where the document's interface lists its functions.
+INTERFACE = {
+    "points": "is_point turn_of is_on common in_turn",
+    "cuts": "vertices_of edges_of turns_of walks_of walk_area",
+    "drawings": "drawing_of how_many cell_at does_lie_at point_in",
+    "figures": "is_figure segments_of spots_of is_in cells_of",
+    "scenes": "is_scene label_at drawing_in labels_in",
+    "maps": "is_map dart_behind left_of turned parts_in face_around",
+    "needless": "kind_of is_needless_arc steps taken is_least least least_map",
+    "codes": "code turned_code is_code map_of",
+    "renamings": "is_renaming renaming many_renamings alike",
+    "plans": "plan_of is_plan drawn",
+    "picks": "is_pick map_cells does_rim cells_in",
+    "questions": "meetings_in word_in pieces_in holes_in surrounds nesting_in euler_in is_open_in is_closed_in "
+                 "is_bounded_in",
+    "asked": "meetings word_of pieces holes euler are_joined",
+}
+
+
 class Anything:
     """A value of a kind that the package does not know."""
 
@@ -320,6 +339,14 @@ class Bounds(unittest.TestCase):
         for index in (0, -1, None):
             error = failure(walk_area, (), (at(0, 0),), index)
             self.assertEqual((error.__class__, error.given), (errors.InvalidIndex, index))
+
+
+class Interface(unittest.TestCase):
+
+    def test_each_function_is_defined_where_the_interface_lists_it(self):
+        told = {name: "bentalike." + module for module, names in INTERFACE.items() for name in names.split()}
+        functions = [function for function, _ in CALLS] + list(FOR_ANY_VALUE) + [is_renaming]
+        self.assertEqual({function.__name__: function.__module__ for function in functions}, told)
 
 
 class AnyValue(unittest.TestCase):

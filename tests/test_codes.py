@@ -343,6 +343,16 @@ class ReadBack(unittest.TestCase):
         self.assertEqual(code(map_of(many)), many)
         self.assertIs(is_code("[-" + ".A" * 3000 + "]"), False)
 
+    def test_numbers_of_four_signs(self):
+        many = 520
+        arcs = tuple((at, at + 1, A) for at in range(many))
+        turns = ((0,),) + tuple((2 * at - 1, 2 * at) for at in range(1, many)) + ((2 * many - 1,),)
+        bare = ((B,) + (A,) * many, arcs, turns)
+        chart = bare + ((), ((NONE, tuple(charts.walks_of(bare)), ()),))
+        text = code(chart)
+        self.assertIn(" 1039A", text)
+        self.assertEqual(code(map_of(text)), text)
+
     def test_far_within(self):
         rings = tuple((A, ring + 1, ring) for ring in range(1499))
         chart = ((), (), (), rings, (FACES,) + ((B, (), ()),) * 1499)
