@@ -5,6 +5,14 @@ from bentalike.checks import check_index, check_map, check_name, check_pick
 from bentalike.webs import Web, closed, holes_of, innermost_of, opened, pieces_of, told_cells, truths_in
 
 
+def told_in(chart, pick):
+    """The cells of the map and which of them are in the pick, once both are what they have to be."""
+    check_map(chart)
+    check_pick(pick)
+    web = Web(chart)
+    return web, truths_in(web, pick)
+
+
 def meetings_in(chart, name, other):
     """Nine truths: whether a cell is in inner, rim, outside of the first set and inner, rim, outside of the other."""
     check_map(chart)
@@ -23,26 +31,20 @@ def word_in(chart, name, other):
 
 def pieces_in(chart, pick):
     """The pieces of the pick, each the ascending tuple of its cells."""
-    check_map(chart)
-    check_pick(pick)
-    web = Web(chart)
-    return tuple([told_cells(web, piece) for piece in pieces_of(web, truths_in(web, pick))])
+    web, truths = told_in(chart, pick)
+    return tuple([told_cells(web, piece) for piece in pieces_of(web, truths)])
 
 
 def holes_in(chart, pick):
     """The holes of the cells of the pick: the bounded pieces of all other cells."""
-    check_map(chart)
-    check_pick(pick)
-    web = Web(chart)
-    return tuple([told_cells(web, piece) for piece in holes_of(web, truths_in(web, pick))])
+    web, truths = told_in(chart, pick)
+    return tuple([told_cells(web, piece) for piece in holes_of(web, truths)])
 
 
 def surrounds(chart, pick, index, other):
     """Whether the piece with the first index surrounds the one with the other index."""
-    check_map(chart)
-    check_pick(pick)
-    web = Web(chart)
-    pieces = pieces_of(web, truths_in(web, pick))
+    web, truths = told_in(chart, pick)
+    pieces = pieces_of(web, truths)
     check_index(index, len(pieces))
     check_index(other, len(pieces))
     own = [False for _ in web.cells]
@@ -53,10 +55,8 @@ def surrounds(chart, pick, index, other):
 
 def nesting_in(chart, pick):
     """For each piece the index of the innermost one that surrounds it; None if none does."""
-    check_map(chart)
-    check_pick(pick)
-    web = Web(chart)
-    around = innermost_of(web, truths_in(web, pick))
+    web, truths = told_in(chart, pick)
+    around = innermost_of(web, truths)
     indexes = {first: index for index, first in enumerate(around)}
     return tuple([None if around[first] is None else indexes[around[first]] for first in around])
 
@@ -70,25 +70,17 @@ def euler_in(chart, pick):
 
 def is_open_in(chart, pick):
     """Whether the pick is its own inner."""
-    check_map(chart)
-    check_pick(pick)
-    web = Web(chart)
-    truths = truths_in(web, pick)
+    web, truths = told_in(chart, pick)
     return opened(web, truths) == truths
 
 
 def is_closed_in(chart, pick):
     """Whether the pick is its own closure."""
-    check_map(chart)
-    check_pick(pick)
-    web = Web(chart)
-    truths = truths_in(web, pick)
+    web, truths = told_in(chart, pick)
     return closed(web, truths) == truths
 
 
 def is_bounded_in(chart, pick):
     """Whether the outer face is not in the pick."""
-    check_map(chart)
-    check_pick(pick)
-    web = Web(chart)
-    return not truths_in(web, pick)[web.outer]
+    web, truths = told_in(chart, pick)
+    return not truths[web.outer]

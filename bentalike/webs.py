@@ -6,6 +6,7 @@ Truths are lists that tell of each cell whether it is in something; pieces are l
 from bentalike.forms import PAIRED
 from bentalike.links import groups_of
 from bentalike.nesting import left_faces
+from bentalike.truths import is_joined
 
 
 class Web:
@@ -67,11 +68,8 @@ def truths_in(web, pick):
 
 
 def joined(word, truths, others):
-    if word == "both":
-        return [first and second for first, second in zip(truths, others)]
-    if word == "either":
-        return [first or second for first, second in zip(truths, others)]
-    return [first and not second for first, second in zip(truths, others)]
+    """What is in both, in either, or in the first ones less the other ones."""
+    return [is_joined(word, first, second) for first, second in zip(truths, others)]
 
 
 def denied(truths):
