@@ -2,14 +2,9 @@
 
 from bentalike.answers import euler_of, truths_of_meeting, word_for
 from bentalike.checks import check_name, check_pick, check_point, check_scene
-from bentalike.planning import chart_on, plan_in
+from bentalike.planning import chart_on, least_in
 from bentalike.scenes import board_of, labels_on
-from bentalike.sheets import least_of
 from bentalike.webs import Web, holes_of, pieces_of, truths_in
-
-
-def least_in(scene):
-    return least_of(plan_in(scene)[0])
 
 
 def meetings(scene, name, other):

@@ -1,17 +1,16 @@
 """Checks of arguments: each function raises the error told for its argument, or does nothing."""
 
 from bentalike.errors import (
-    InvalidDart, InvalidFigure, InvalidIndex, InvalidMap, InvalidName, InvalidPick, InvalidPoint, InvalidPoints,
-    InvalidScene, InvalidSegment, InvalidSegments, InvalidSide, InvalidSpecial, TooMany
+    BadText, InvalidDart, InvalidFigure, InvalidIndex, InvalidMap, InvalidName, InvalidPick, InvalidPoint,
+    InvalidPoints, InvalidScene, InvalidSegment, InvalidSegments, InvalidSide, InvalidSpecial, TooMany
 )
 from bentalike.forms import (
-    MOST_SEGMENTS, is_figure_form, is_name, is_pick_form, is_scene_form, lines_in, lines_in_scene
+    MOST_SEGMENTS, is_figure_form, is_name, is_pick_form, is_scene_form, is_side, lines_in, lines_in_scene
 )
 from bentalike.kinds import is_index, is_place, is_row, is_stretch
 from bentalike.soundness import is_sound_map
 
 MOST_IN_ROW = 24
-SIDES = ("keeps", "turns")
 
 
 def check_point(value):
@@ -81,7 +80,7 @@ def check_special(value, chart):
 
 
 def check_side(value):
-    if not isinstance(value, str) or value not in SIDES:
+    if not is_side(value):
         raise InvalidSide(value)
 
 
@@ -93,3 +92,8 @@ def check_name(value):
 def check_pick(value):
     if not is_pick_form(value):
         raise InvalidPick(value)
+
+
+def check_text(value):
+    if not isinstance(value, str):
+        raise BadText(None)

@@ -14,3 +14,8 @@ def turned_over(chart):
 def turned_walks(walks):
     """The walks of a face when seen from behind: those of the opposites, the other way round."""
     return tuple(sorted([from_least([opposite(dart) for dart in walk[::-1]]) for walk in walks]))
+
+
+def seen_from(chart, side):
+    """The map as it is seen from the side told: what turns sides to a map keeps them to the map turned."""
+    return turned_over(chart) if side == "turns" else chart

@@ -8,6 +8,7 @@ MOST_ON_LINE = 12
 NAMES = ("A", "B", "C", "D")
 PAIRED = ("both", "either", "less")
 NEARBY = ("closure", "inner", "rim")
+SIDES = ("keeps", "turns")
 
 
 def is_figure_form(value, deep=MOST_DEEP):
@@ -37,6 +38,15 @@ def is_line(value, least):
     if not is_row(value, least, MOST_ON_LINE) or not all(is_place(point) for point in value):
         return False
     return all(value[at] != value[at + 1] for at in range(len(value) - 1))
+
+
+def depth_of(value):
+    """How deep a figure or pick is."""
+    if value[0] in PAIRED:
+        return 1 + max(depth_of(value[1]), depth_of(value[2]))
+    if value[0] in NEARBY or value[0] == "not":
+        return 1 + depth_of(value[1])
+    return 1
 
 
 def basics_of(figure):
@@ -69,6 +79,10 @@ def dots_in(figure):
 
 def is_name(value):
     return isinstance(value, str) and value in NAMES
+
+
+def is_side(value):
+    return isinstance(value, str) and value in SIDES
 
 
 def is_label(value):

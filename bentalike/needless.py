@@ -4,7 +4,7 @@ from bentalike.checks import check_dart, check_map, check_scene, check_special
 from bentalike.errors import InvalidStep
 from bentalike.kinds import is_row, is_whole
 from bentalike.nesting import left_faces
-from bentalike.planning import plan_in
+from bentalike.planning import least_in
 from bentalike.sheets import Sheet, behind_step, least_of, steps_of
 
 
@@ -72,5 +72,4 @@ def least(chart):
 def least_map(scene):
     """The least map that is left of the map of the scene's plan."""
     check_scene(scene)
-    chart, _ = plan_in(scene)
-    return least_of(chart)
+    return least_in(scene)

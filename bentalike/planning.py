@@ -5,6 +5,7 @@ from bentalike.kinds import is_place, is_row
 from bentalike.links import from_least
 from bentalike.ratios import is_ahead
 from bentalike.scenes import board_of, labels_on
+from bentalike.sheets import least_of
 from bentalike.soundness import is_sound_map
 
 
@@ -25,6 +26,12 @@ def plan_in(scene):
     """The plan of a scene."""
     board = board_of(scene, ())
     return chart_on(board, labels_on(scene, board)), board.vertices
+
+
+def least_in(scene):
+    """The least map that is left of the map of a scene's plan."""
+    chart, _ = plan_in(scene)
+    return least_of(chart)
 
 
 def is_plan_form(value):

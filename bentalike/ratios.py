@@ -21,6 +21,16 @@ def plus(first, second):
     return fraction(first[0] * second[1] + second[0] * first[1], first[1] * second[1])
 
 
+def times(first, second):
+    return fraction(first[0] * second[0], first[1] * second[1])
+
+
+def between(low, high, upper, lower):
+    """The number upper / lower of the way from low to high."""
+    first, second = low[0] * high[1], high[0] * low[1]
+    return fraction(first * (lower - upper) + second * upper, low[1] * high[1] * lower)
+
+
 def half(number):
     return fraction(number[0], 2 * number[1])
 

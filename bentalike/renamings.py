@@ -2,15 +2,9 @@
 
 from bentalike.checks import check_map, check_scene, check_side
 from bentalike.coding import Coded, code_of, many_onto_itself, turned_code_of
-from bentalike.flipping import turned_over
+from bentalike.flipping import seen_from
 from bentalike.matching import does_rename, matched
-from bentalike.planning import plan_in
-from bentalike.sheets import least_of
-
-
-def seen_from(chart, side):
-    """The map as it is seen from the side told: what turns sides to a map keeps them to the map turned."""
-    return turned_over(chart) if side == "turns" else chart
+from bentalike.planning import least_in
 
 
 def is_renaming(chart, other, side, value):
@@ -44,6 +38,5 @@ def alike(scene, other):
     """Whether there is a bending that keeps sides, and whether there is one that turns them."""
     check_scene(scene)
     check_scene(other)
-    charts = [least_of(plan_in(each)[0]) for each in (scene, other)]
-    text = code_of(charts[0])
-    return text == code_of(charts[1]), text == turned_code_of(charts[1])
+    text, goal = code_of(least_in(scene)), least_in(other)
+    return text == code_of(goal), text == turned_code_of(goal)
