@@ -8,6 +8,8 @@ class Board:
     """The drawing of some segments and lone points, with what lies at what."""
 
     def __init__(self, segments, points):
+        self.segments = segments
+        self.points = points
         vertices, rows = cut(segments, points)
         self.vertices = vertices
         self.edges = edges_along(rows)

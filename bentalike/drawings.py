@@ -3,9 +3,8 @@
 from bentalike.board import Board
 from bentalike.checks import check_point, check_points, check_segments
 from bentalike.errors import InvalidCell
-from bentalike.inside import place_in
+from bentalike.inside import cell_with, place_in
 from bentalike.kinds import is_index, is_row
-from bentalike.plane import lies_on
 
 
 def drawing_of(segments, points):
@@ -27,15 +26,7 @@ def cell_at(segments, points, point):
     check_segments(segments)
     check_points(points)
     check_point(point)
-    board = Board(segments, points)
-    if point in board.vertices:
-        return "vertex", board.vertices.index(point)
-    for edge, (low, high) in enumerate(board.edges):
-        if lies_on((board.vertices[low], board.vertices[high]), point):
-            return "edge", edge
-    # A lone point in a face changes the numbers of vertices alone: edges and faces keep their order.
-    closer = Board(segments, points + (point,))
-    return "face", closer.faces_at[closer.vertices.index(point)][0]
+    return cell_with(Board(segments, points), point)
 
 
 def check_cell(value, board):

@@ -1,6 +1,8 @@
-"""A place within each cell of a board."""
+"""A place within each cell of a board, and the cell in which a place is."""
 
+from bentalike.board import Board
 from bentalike.ordering import sorted_by
+from bentalike.plane import lies_on
 from bentalike.ratios import crossed, fraction, half, is_less, plus, scaled
 
 
@@ -54,3 +56,15 @@ def height_at(start, goal, x):
     """The y of the line through two points at x."""
     a, b, c = crossed(scaled(start), scaled(goal))
     return fraction(-a * x[0] - c * x[1], b * x[1])
+
+
+def cell_with(board, place):
+    """The cell of the board in which a place is."""
+    if place in board.vertices:
+        return "vertex", board.vertices.index(place)
+    for edge, (low, high) in enumerate(board.edges):
+        if lies_on((board.vertices[low], board.vertices[high]), place):
+            return "edge", edge
+    # A lone point in a face changes the numbers of vertices alone: edges and faces keep their order.
+    closer = Board(board.segments, board.points + (place,))
+    return "face", closer.faces_at[closer.vertices.index(place)][0]

@@ -3,7 +3,6 @@
 from bentalike.checks import check_map, check_pick
 from bentalike.errors import InvalidCell
 from bentalike.forms import is_pick_form
-from bentalike.kinds import is_row, is_whole
 from bentalike.webs import Web, told_cells, truths_in
 
 
@@ -19,10 +18,7 @@ def map_cells(chart):
 
 
 def check_cell(value, web):
-    # Python finds ("arc", True) where ("arc", 1) is, and cannot look for what holds a list.
-    if not is_row(value, 2, 2) or not isinstance(value[0], str) or not is_whole(value[1]):
-        raise InvalidCell(value)
-    if value not in web.numbers:
+    if not web.has_cell(value):
         raise InvalidCell(value)
 
 

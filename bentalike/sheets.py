@@ -4,6 +4,10 @@ from bentalike.links import from_least, opposite, walks_along
 from bentalike.nesting import homes_in, left_faces, tail_of
 
 
+# The words of steps, ascending.
+WORDS = ("arc", "pass", "ring", "spot")
+
+
 class Sheet:
     """A map that changes: what is taken away keeps no trace, what stays keeps its numbers until it is told."""
 
@@ -16,6 +20,9 @@ class Sheet:
         self.opposites = {dart: opposite(dart) for dart in darts}
         self.tails = {dart: tail_of(arcs, dart) for dart in darts}
         self.labels = {dart: arcs[dart // 2][2] for dart in darts}
+        # For each dart its arc, for each arc its first dart.
+        self.arcs = {dart: dart // 2 for dart in darts}
+        self.firsts = {arc: 2 * arc for arc in range(len(arcs))}
         self.left = left_faces(chart)
         self.rings = list(rings)
         self.homes = {spot: face for face, (_, _, spots) in enumerate(faces) for spot in spots}
@@ -35,10 +42,10 @@ class Sheet:
         self.merged[max(low, high)] = min(low, high)
 
     def drop_arc(self, arc):
-        """Take away an arc that is none of those that have become one."""
-        darts = (2 * arc, 2 * arc + 1)
-        self.unite(self.left[darts[0]], self.left[darts[1]])
-        for dart in darts:
+        first = self.firsts.pop(arc)
+        second = self.opposites[first]
+        self.unite(self.left[first], self.left[second])
+        for dart in (first, second):
             special = self.tails[dart]
             self.turns[special].remove(dart)
             if not self.turns[special]:
@@ -47,14 +54,21 @@ class Sheet:
 
     def drop_pass(self, special):
         """Make one arc of the two at a special, or a ring of the one that is there."""
-        first, second = self.turns.pop(special)
         label = self.specials.pop(special)
+        first, second = self.turns.pop(special)
+        if self.arcs[second] < self.arcs[first]:
+            first, second = second, first
+        self.firsts.pop(self.arcs[second])
         start, goal = self.opposites.pop(first), self.opposites.pop(second)
         if start == second:
             self.rings.append((label, self.left[first], self.left[second]))
-        else:
-            self.opposites[start] = goal
-            self.opposites[goal] = start
+            return
+        # The arc goes on as the one of the lesser number, from the other end of that one: so numbers
+        # are the same whether a map is told between two steps or not.
+        self.firsts[self.arcs[first]] = start
+        self.arcs[goal] = self.arcs[start]
+        self.opposites[start] = goal
+        self.opposites[goal] = start
 
     def drop_ring(self, ring):
         _, within, around = self.rings[ring]
@@ -66,8 +80,9 @@ class Sheet:
         self.homes.pop(special)
 
     def is_needless_arc(self, arc):
-        faces = [self.faces[self.left[dart]] for dart in (2 * arc, 2 * arc + 1)]
-        return faces == [self.labels[2 * arc]] * 2
+        first = self.firsts[arc]
+        faces = [self.faces[self.left[dart]] for dart in (first, self.opposites[first])]
+        return faces == [self.labels[first]] * 2
 
     def is_needless_ring(self, ring):
         label, within, around = self.rings[ring]
@@ -80,13 +95,25 @@ class Sheet:
         turn = self.turns[special]
         return len(turn) == 2 and all(self.labels[dart] == self.specials[special] for dart in turn)
 
+    def numbers_of(self, word):
+        """The numbers of what is left of the kind that such steps take, in order."""
+        if word == "arc":
+            return list(self.firsts)
+        if word == "ring":
+            return [number for number, ring in enumerate(self.rings) if ring is not None]
+        return list(self.specials)
+
+    def is_step(self, step):
+        word, number = step
+        if word == "arc":
+            return self.is_needless_arc(number)
+        if word == "pass":
+            return self.is_pass(number)
+        return self.is_needless_ring(number) if word == "ring" else self.is_needless_spot(number)
+
     def steps(self):
-        """All steps, ascending; told only before something is taken."""
-        arcs = [("arc", arc) for arc in range(len(self.labels) // 2) if self.is_needless_arc(arc)]
-        passes = [("pass", special) for special in self.specials if self.is_pass(special)]
-        rings = [("ring", ring) for ring in range(len(self.rings)) if self.is_needless_ring(ring)]
-        spots = [("spot", special) for special in self.specials if self.is_needless_spot(special)]
-        return tuple(arcs + passes + rings + spots)
+        """All steps, ascending."""
+        return [(word, number) for word in WORDS for number in self.numbers_of(word) if self.is_step((word, number))]
 
     def take(self, step):
         word, index = step
@@ -103,7 +130,7 @@ class Sheet:
         """The map that is left: what stays is numbered in the order of its numbers."""
         specials = list(self.specials)
         numbers = {special: number for number, special in enumerate(specials)}
-        firsts = [dart for dart in self.opposites if dart < self.opposites[dart]]
+        firsts = list(self.firsts.values())
         darts = {}
         for number, first in enumerate(firsts):
             darts[first] = 2 * number
@@ -150,7 +177,8 @@ def oriented(chart):
 
 
 def steps_of(chart):
-    return Sheet(chart).steps()
+    """All steps, ascending."""
+    return tuple(Sheet(chart).steps())
 
 
 def behind_step(chart, step):
@@ -160,18 +188,32 @@ def behind_step(chart, step):
     return sheet.told()
 
 
+def walked(chart, steps):
+    """The map to which steps lead, each in the numbers of the map that the ones ahead leave; None if one is none."""
+    sheet = Sheet(chart)
+    for word, index in steps:
+        numbers = sheet.numbers_of(word)
+        if index >= len(numbers) or not sheet.is_step((word, numbers[index])):
+            return None
+        sheet.take((word, numbers[index]))
+    return sheet.told()
+
+
+def taken_down(chart):
+    """Steps by which a map comes to a least one, each in the numbers of what is left ahead of it, and that one."""
+    sheet = Sheet(chart)
+    found = []
+    # No step makes an arc or a ring needless that was not, and passes make no spots: so each kind of step
+    # is gone through once, from the last one on, as a step changes no number ahead of its own.
+    for word in ("arc", "ring", "spot", "pass"):
+        for index, number in list(enumerate(sheet.numbers_of(word)))[::-1]:
+            if sheet.is_step((word, number)):
+                sheet.take((word, number))
+                found.append((word, index))
+    return tuple(found), sheet.told()
+
+
 def least_of(chart):
     """The least map that is left of a map."""
-    sheet = Sheet(chart)
-    # No step makes an arc or a ring needless that was not: so each kind of step is gone through once,
-    # passes last, as arcs that become one are known no longer by their indexes.
-    for word, index in sheet.steps():
-        if word in ("arc", "ring"):
-            sheet.take((word, index))
-    for special in list(sheet.specials):
-        if sheet.is_needless_spot(special):
-            sheet.drop_spot(special)
-    for special in list(sheet.specials):
-        if sheet.is_pass(special):
-            sheet.drop_pass(special)
-    return sheet.told()
+    _, left = taken_down(chart)
+    return left

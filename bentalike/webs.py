@@ -4,6 +4,7 @@ Truths are lists that tell of each cell whether it is in something; pieces are l
 """
 
 from bentalike.forms import PAIRED
+from bentalike.kinds import is_row, is_whole
 from bentalike.links import groups_of
 from bentalike.nesting import left_faces
 from bentalike.truths import is_joined
@@ -29,6 +30,16 @@ class Web:
         for cell, other in rims_in(chart):
             rims[cell][self.numbers[other]] = True
         self.rims = [list(rims[cell]) for cell in self.cells]
+
+    def has_cell(self, value):
+        """Whether value, whatever it is, is one of the cells."""
+        # Python finds ("arc", True) where ("arc", 1) is, and cannot look for what holds a list.
+        if not is_row(value, 2, 2) or not isinstance(value[0], str) or not is_whole(value[1]):
+            return False
+        return value in self.numbers
+
+    def are_neighbours(self, cell, other):
+        return other in self.rims[cell] or cell in self.rims[other]
 
 
 def rims_in(chart):

@@ -6,18 +6,28 @@ from itertools import combinations
 
 from bentalike import errors
 from bentalike.asked import are_joined, euler, holes, meetings, pieces, word_of
+from bentalike.books import changed, done_again, fresh_book, is_book, undone
+from bentalike.certificates import (
+    certify_bent, certify_drawn, certify_joined, certify_least, certify_meetings, certify_read
+)
+from bentalike.checker import accepts
 from bentalike.codes import code, is_code, map_of, turned_code
+from bentalike.console import run
 from bentalike.cuts import edges_of, turns_of, vertices_of, walk_area, walks_of
+from bentalike.deeds import behind_deed, does_fit, work_of
 from bentalike.drawings import cell_at, does_lie_at, drawing_of, how_many, point_in
 from bentalike.figures import cells_of, is_figure, is_in, segments_of, spots_of
 from bentalike.maps import dart_behind, face_around, is_map, left_of, parts_in, turned
 from bentalike.needless import is_least, is_needless_arc, kind_of, least, least_map, steps, taken
 from bentalike.picks import cells_in, does_rim, is_pick, map_cells
+from bentalike.pictures import letters, picture, read_picture
 from bentalike.plans import drawn, is_plan, plan_of
 from bentalike.points import common, in_turn, is_on, is_point, turn_of
+from bentalike.printer import figure_text, pick_text, scene_text
 from bentalike.questions import (
     euler_in, holes_in, is_bounded_in, is_closed_in, is_open_in, meetings_in, nesting_in, pieces_in, surrounds, word_in
 )
+from bentalike.reader import read_figure, read_pick, read_scene
 from bentalike.renamings import alike, is_renaming, many_renamings, renaming
 from bentalike.scenes import drawing_in, is_scene, label_at, labels_in
 from charts import A, CUT, EYE, RINGS, STICK
@@ -44,6 +54,14 @@ INTERFACE = {
     "questions": "meetings_in word_in pieces_in holes_in surrounds nesting_in euler_in is_open_in is_closed_in "
                  "is_bounded_in",
     "asked": "meetings word_of pieces holes euler are_joined",
+    "reader": "read_figure read_scene read_pick",
+    "printer": "figure_text scene_text pick_text",
+    "deeds": "does_fit behind_deed work_of",
+    "books": "is_book fresh_book changed undone done_again",
+    "pictures": "letters picture read_picture",
+    "console": "run",
+    "checker": "accepts",
+    "certificates": "certify_least certify_bent certify_drawn certify_meetings certify_joined certify_read",
 }
 
 
@@ -129,6 +147,24 @@ WRONG_STEPS = OTHER_KINDS + (
     ("spot", 0), ("ring", 0), ("Arc", 1), (b"arc", 1), (("arc", 1),), ("arc", GREAT), ("arc", [1]), "arc",
 )
 SEAM = ((A, A), ((0, 1, A), (0, 1, A), (0, 1, A)), CUT[2], (), CUT[4])
+STATE = (SCENE, code(least_map(SCENE)))
+BOOK = (STATE, (STATE,), (STATE, STATE))
+WRONG_DEEDS = OTHER_KINDS + (
+    ["strike", "A"], ("strike", "B"), ("strike", "E"), ("strike", ["A"]), ("put", "A", [], FIGURE),
+    ("put", "A", (3,), FIGURE), ("put", "A", (True,), FIGURE), ("put", "B", (1,), FIGURE), ("put", "A", (),
+                                                                                            list(FIGURE)),
+    ("put", "A", (), WIDE), ("put", "A", (), DEEP), ("shift", "A", (), 1, (0, 1)), ("shift", "A", (), (1, 1), (2, 2)),
+    ("point", "A", (2,), 1, POINT), ("point", "A", (2,), True, POINT), ("point", "A", (1,), 0, at(2, 0)),
+    ("exchange", "A", "A"), ("exchange", "B", "D"), ("lead", ((1, 1),) * 6), ("lead", [(1, 1)] * 6), STATE, BOOK,
+)
+WRONG_BOOKS = OTHER_KINDS + (
+    list(BOOK), BOOK[:2], BOOK + ((),), STATE, SCENE, (STATE, [STATE], ()), (STATE, (STATE,) * 21, ()),
+    (STATE, (), (STATE,) * 21), ((SCENE, "[-]"), (), ()), (list(STATE), (), ()), (STATE, ((SCENE, None),), ()),
+    (STATE, (), (SCENE,)), ((SCENE[::-1], STATE[1]), (), ()),
+)
+NO_TEXTS = tuple(value for value in OTHER_KINDS if not isinstance(value, str)) + (["A"], ("A", "B"), (("A",),), SCENE)
+NO_LINES = tuple(value for value in OTHER_KINDS if not isinstance(value, tuple)) + (["undo"], ("undo",) * 201)
+HIGH = at(3, 4)
 NO_INDEXES = (-1, -2, GREAT, True, False, None, "0", b"", (0,), [0], {}, Anything())
 
 WRONG = {
@@ -158,6 +194,18 @@ WRONG = {
     "map cell": given_rows(errors.InvalidCell, tuple(value for value in WRONG_CELLS if value != ("special", 0)) + (
         ("special", True), ("special", 2), ("arc", 1), ("ring", 0), ("face", 1), ("arc", -1), ["arc", 0])),
     "piece": given_rows(errors.InvalidIndex, NO_INDEXES + (2, 3)),
+    "deed": given_rows(errors.InvalidDeed, WRONG_DEEDS),
+    "book": given_rows(errors.InvalidBook, WRONG_BOOKS),
+    "text": [(value, errors.BadText, {"spot": None}) for value in NO_TEXTS],
+    "high": given_rows(errors.InvalidPoint, WRONG_POINTS + (
+        POINT, at(1, 3), at(2, 2), at(0, 3), at(2, 1), at(-5, -5), at(1, 2), ((10 ** 390, 1), (2, 1)))),
+    "window": given_rows(errors.InvalidWindow, tuple(value for value in NO_INDEXES if value != 1) + (
+        0, 25, 26, -24, "3", (3,), [3], GREAT)),
+    "lines": [(value, errors.InvalidLines, {"index": None}) for value in NO_LINES] + [
+        ((value,), errors.InvalidLines, {"index": 0}) for value in NO_TEXTS] + [
+        (("undo", "") + (value, "A", value), errors.InvalidLines, {"index": 2}) for value in NO_TEXTS] + [
+        (("",) * 199 + (None,), errors.InvalidLines, {"index": 199})],
+    "least": given_rows(errors.InvalidMap, WRONG_MAPS + (SEAM,)),
     "walk": given_rows(errors.InvalidIndex, (-1, -2, 2, 3, GREAT, True, False, None, "0", b"", (0,), [0], Anything())),
 }
 LONE = (at(1, 1),)
@@ -229,7 +277,32 @@ CALLS = (
     (are_joined, (("scene", "scene", SCENE), ("pick", "pick", ("all",)), ("point", "point", POINT),
                   ("other", "point", at(5, 5)))),
 )
-FOR_ANY_VALUE = (is_point, is_figure, is_scene, is_map, is_code, is_plan, is_pick)
+CALLS += (
+    (read_figure, (("text", "text", "spot (1, 2)"),)),
+    (read_scene, (("text", "text", "A = spot (1, 2);"),)),
+    (read_pick, (("text", "text", "A"),)),
+    (figure_text, (("figure", "figure", FIGURE),)),
+    (scene_text, (("scene", "scene", SCENE),)),
+    (pick_text, (("pick", "pick", PICK),)),
+    (behind_deed, (("scene", "scene", SCENE), ("deed", "deed", ("strike", "A")))),
+    (work_of, (("scene", "scene", SCENE), ("deed", "deed", ("exchange", "C", "A")))),
+    (fresh_book, (("scene", "scene", SCENE),)),
+    (changed, (("book", "book", BOOK), ("deed", "deed", ("put", "D", (), FIGURE)))),
+    (undone, (("book", "book", BOOK),)),
+    (done_again, (("book", "book", BOOK),)),
+    (letters, (("scene", "scene", SCENE), ("low", "point", POINT), ("high", "high", HIGH), ("count", "window", 3))),
+    (picture, (("scene", "scene", SCENE),)),
+    (read_picture, (("text", "text", picture(SCENE)),)),
+    (run, (("lines", "lines", ("A = spot (0, 0)", "undo", "what")),)),
+    (certify_least, (("chart", "map", SEAM),)),
+    (certify_bent, (("scene", "scene", SCENE), ("other", "scene", ()), ("side", "side", "turns"))),
+    (certify_drawn, (("chart", "least", CUT),)),
+    (certify_meetings, (("scene", "scene", SCENE), ("name", "name", "A"), ("other", "name", "C"))),
+    (certify_joined, (("scene", "scene", SCENE), ("pick", "pick", ("all",)), ("point", "point", POINT),
+                      ("other", "point", at(5, 5)))),
+    (certify_read, (("text", "text", "A = spot (0, 0)"),)),
+)
+FOR_ANY_VALUE = (is_point, is_figure, is_scene, is_map, is_code, is_plan, is_pick, is_book)
 
 
 class Arguments(unittest.TestCase):
@@ -294,6 +367,20 @@ class Arguments(unittest.TestCase):
                     behind = {later: None for later in ("other", "side", "value")[many:]}
                     self.check_failure(failure(is_renaming, **{**named, **behind, name: wrong}), error, attributes)
 
+    def test_whatever_stands_behind_the_scene_of_does_fit(self):
+        self.assertEqual(list(inspect.signature(does_fit).parameters), ["scene", "value"])
+        for value in WRONG_DEEDS:
+            self.assertIs(does_fit(scene=SCENE, value=value), False)
+        for wrong, error, attributes in WRONG["scene"]:
+            self.check_failure(failure(does_fit, wrong, None), error, attributes)
+            self.check_failure(failure(does_fit, value=("strike", "A"), scene=wrong), error, attributes)
+
+    def test_whatever_both_are_of_accepts(self):
+        self.assertEqual(list(inspect.signature(accepts).parameters), ["claim", "paper"])
+        for claim in WRONG_DEEDS + WRONG_BOOKS + WRONG_MAPS:
+            for paper in ((), None, claim, SCENE):
+                self.assertIs(accepts(claim=claim, paper=paper), False)
+
     def test_equal_calls_return_equal_results(self):
         for function, arguments in CALLS:
             values = [value for _, _, value in arguments]
@@ -345,7 +432,7 @@ class Interface(unittest.TestCase):
 
     def test_each_function_is_defined_where_the_interface_lists_it(self):
         told = {name: "bentalike." + module for module, names in INTERFACE.items() for name in names.split()}
-        functions = [function for function, _ in CALLS] + list(FOR_ANY_VALUE) + [is_renaming]
+        functions = [function for function, _ in CALLS] + list(FOR_ANY_VALUE) + [is_renaming, does_fit, accepts]
         self.assertEqual({function.__name__: function.__module__ for function in functions}, told)
 
 
@@ -354,8 +441,8 @@ class AnyValue(unittest.TestCase):
     def test_whatever_it_is_is_told_by_true_or_false(self):
         for function in FOR_ANY_VALUE:
             for value in (WRONG_POINTS + WRONG_SEGMENTS + WRONG_FIGURES + WRONG_SCENES + WRONG_CELLS + WRONG_MAPS
-                          + NO_INDEXES + WRONG_PICKS + WRONG_CODES + WRONG_STEPS
-                          + (PICK, "[-.A]", ("all",), POINT, SEGMENT, FIGURE, SCENE, CUT, WIDE)):
+                          + NO_INDEXES + WRONG_PICKS + WRONG_CODES + WRONG_STEPS + WRONG_DEEDS + WRONG_BOOKS
+                          + (PICK, BOOK, "[-.A]", ("all",), POINT, SEGMENT, FIGURE, SCENE, CUT, WIDE)):
                 self.assertIn(function(value), (True, False))
                 self.assertIsInstance(function(value), bool)
 

@@ -43,7 +43,7 @@ class Examples(unittest.TestCase):
 
     def test_there_are_examples(self):
         printed = [lines for _, lines in cases(EXAMPLES) if lines]
-        self.assertEqual(len(printed), 28)
+        self.assertEqual(len(printed), 43)
 
 
 if __name__ == "__main__":

@@ -288,7 +288,8 @@ class Scenes(Texts):
                           ("let a = spot (0, 0); let b = a; let a = b; let b = a;", 36))
 
     def test_a_name_told_twice(self):
-        self.check_places("scene", ("A = spot (0, 0); A = spot (0, 0);", 17), ("A = spot (0, 0); B = spot (0, 0);", None),
+        self.check_places("scene", ("A = spot (0, 0); A = spot (0, 0);", 17), ("A = spot (0, 0); B = spot (0, 0);",
+                                                                               None),
                           ("A = spot (0, 0); B = spot (0, 0); A = x;", 34), ("A = x; A = spot (0, 0);", 4),
                           ("A = spot (0, 0);A=y;A=z;", 16))
 
@@ -308,7 +309,8 @@ class Scenes(Texts):
 
     def test_figures_under_free_names_count_where_they_are_used(self):
         great = f"let a = {path(12)} + {path(12)} + {path(12)}; "
-        self.check_places("scene", (great, None), (great + "A = spot (0, 0);", None), (great + "A = a;", len(great) + 4),
+        self.check_places("scene", (great, None), (great + "A = spot (0, 0);", None), (great + "A = a;",
+                                                                                       len(great) + 4),
                           (great + "let b = a + a; A = rim spot (0, 0);", None))
         half = f"let a = {path(12)} + {path(2)}; "
         self.check_places("scene", (half + "A = a; B = a;", None), (half + "A = a + a;", None),
