@@ -21,13 +21,12 @@ PARTS = {
     "reads": ("text", "scene"),
     "reads not": ("text", "place"),
 }
-MOST_PARTS = 4
 MANY_TRUTHS = 9
 
 
 def is_claim(value):
     """Whether value, whatever it is, is a claim."""
-    if not is_row(value, 1, 1 + MOST_PARTS) or not isinstance(value[0], str) or value[0] not in PARTS:
+    if not isinstance(value, tuple) or not value or not isinstance(value[0], str) or value[0] not in PARTS:
         return False
     kinds = PARTS[value[0]]
     return len(value) == 1 + len(kinds) and all(is_part(kind, part) for kind, part in zip(kinds, value[1:]))

@@ -87,14 +87,14 @@ class Desk:
     def answer_statement(self, line):
         reader = Reader(line, False)
         reader.free_figures = dict(self.free_figures)
-        first, name, _ = reader.words[0]
-        reader.named_figures = {other: figure for other, figure in self.scene() if first == "let" or other != name}
+        _, first, _ = reader.words[0]
+        reader.named_figures = {name: figure for name, figure in self.scene() if name != first}
         reader.read_statement()
         reader.finish()
         if first == "let":
             self.free_figures = reader.free_figures
         else:
-            self.change(("put", name, (), reader.named_figures[name]))
+            self.change(("put", first, (), reader.named_figures[first]))
         return "done"
 
     def change(self, deed):

@@ -95,7 +95,7 @@ def labelled_from(line, marks):
     pieces = pieces_between(line, marks)
     if pieces is None or not is_class_text(pieces[-1]) or not all(is_number_text(piece) for piece in pieces[:-1]):
         return None
-    return [int(piece) for piece in pieces[:-1]], label_from(pieces[-1])
+    return tuple([int(piece) for piece in pieces[:-1]]), label_from(pieces[-1])
 
 
 class Draft:
@@ -139,11 +139,9 @@ class Draft:
 
     def told_edges(self):
         """The edges; None for the end of one that is no vertex."""
-        numbers = {(x, y): index for index, ((x, y), _) in enumerate(self.circles)}
-        return tuple([
-            (numbers.get((x, y)), numbers.get((other_x, other_y)), label)
-            for (x, y, other_x, other_y), label in self.lines
-        ])
+        places = [place for place, _ in self.circles]
+        numbers = {place: index for index, place in enumerate(places)}
+        return tuple([(numbers.get(ends[:2]), numbers.get(ends[2:]), label) for ends, label in self.lines])
 
 
 def are_edges(edges):

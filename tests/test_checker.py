@@ -120,6 +120,13 @@ class Least(CheckerCase):
                     ((["arc"], 1), ("pass", 0), ("pass", 0)), (("arc", (1,)), ("pass", 0), ("pass", 0)), None):
             self.check_refused(("least", SEAM, DISC), (row, same))
 
+    def test_words_of_steps(self):
+        dotted = ((NONE,), (), ((),), (), ((NONE, (), (0,)),))
+        same = ((), (), (), (0,))
+        self.check_taken(("least", dotted, EMPTY), ((("spot", 0),), same))
+        for word in ("Spot", "", "special", "ring", "pass", "arc", None, 0, b"spot", ("spot",), ["spot"], {}):
+            self.check_refused(("least", dotted, EMPTY), (((word, 0),), same))
+
     def test_others_that_are_not_the_least_map(self):
         row = (("arc", 1), ("pass", 0), ("pass", 0))
         for other in (SEAM, EYE, EMPTY, STICK, ((), (), (), ((B, 1, 0),), ((NONE, (), ()), (A, (), ())))):

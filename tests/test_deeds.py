@@ -199,6 +199,8 @@ class Others(DeedCase):
     def test_point_of_what_is_no_spot_path_area(self):
         self.check_none(HOME, *[("point", "B", where, 0, at(7, 7)) for where in ((), (1,), (2,))])
         self.check_none(HOME, ("point", "A", (), 0, at(7, 7)), ("point", "B", (1, 2), 0, at(7, 7)))
+        for figure in (("rim", DOT), ("closure", ("rim", DOT)), ("both", DOT, FAR), ("rim", HALL)):
+            self.check_none((("A", figure),), *[("point", "A", (), index, at(7, 7)) for index in range(4)])
 
     def test_point_that_makes_two_alike(self):
         self.check_none(HOME, ("point", "B", (2, 2), 0, at(2, 1)), ("point", "B", (2, 2), 1, at(1, 1)),

@@ -240,6 +240,14 @@ class Figures(Texts):
                           ("[" * 12 + dot + "]" * 12 + "+" + "[" * 12 + dot + "]" * 12, None))
         self.check_places("pick", ("not " * 13 + "A", 48), ("[" * 12 + "not A", 12), ("[not " * 7 + "A", 30))
 
+    def test_what_is_closed_is_open_no_more_and_closed_once(self):
+        for closed in ("[A]", "[[A]]", "not A", "not not A", "[not A]", "not [A]", "[A] - not A - [A]"):
+            start = len(closed) + 3
+            self.check_places("pick", (f"{closed} & " + "[" * 12 + "A" + "]" * 12, None),
+                              (f"{closed} & " + "[" * 13 + "A" + "]" * 13, start + 12),
+                              (f"[{closed} & " + "[" * 12 + "A" + "]" * 13, start + 12),
+                              (f"[{closed} & " + "[" * 11 + "A" + "]" * 12, None))
+
     def test_24_and_25_segments(self):
         fits = f"{path(12)} + {path(12)} + {path(3)}"
         self.assertEqual(len(segments_of(read_figure(fits))), 24)
